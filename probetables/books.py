@@ -48,6 +48,11 @@ def steps_of(size):
     return tuple([step for step in range(1, size + 1) if gcd(step, size) == 1])
 
 
+def steps_in(size, family):
+    """The ascending tuple of the steps of the tries of a family, "linear" or "stepped"."""
+    return steps_of(size) if family == "stepped" else (1,)
+
+
 def tries_by_step(size, home, step):
     """The slots from a home on by a step, without checks."""
     return tuple([(home + step * place) % size for place in range(size)])
@@ -58,5 +63,4 @@ def is_of_family(tries, family):
     if family == "any":
         return True
     size = len(tries)
-    steps = steps_of(size) if family == "stepped" else (1,)
-    return tries in [tries_by_step(size, tries[0], step) for step in steps]
+    return tries in [tries_by_step(size, tries[0], step) for step in steps_in(size, family)]

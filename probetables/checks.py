@@ -1,6 +1,6 @@
 """Checks of arguments: each raises the error that the document names for an invalid one."""
 
-from probetables.errors import BadBook, BadKey, BadNumber, BadRule, BadSize, BadTable
+from probetables.errors import BadBook, BadKey, BadNumber, BadRule, BadSize, BadSlots, BadTable, NotText
 
 MOST_SLOTS = 8
 MOST_KEYS = 8
@@ -44,6 +44,14 @@ def check_slot(size, slot):
         raise BadNumber("a slot is an integer from 0 to size - 1")
 
 
+def check_slots(size, slots):
+    """Raise BadSlots for a value that is no ascending tuple of slots of a size, none of them twice."""
+    if not isinstance(slots, tuple) or not all(is_below(slot, size) for slot in slots):
+        raise BadSlots("no tuple of slots")
+    if list(slots) != sorted(set(slots)):
+        raise BadSlots("the slots do not ascend")
+
+
 def check_book(book):
     """Raise BadBook for a value that is no book."""
     if not isinstance(book, tuple) or not 1 <= len(book) <= MOST_KEYS:
@@ -75,3 +83,9 @@ def check_rule(rule, rules):
     """Raise BadRule for a value that is none of some rules."""
     if rule not in rules:
         raise BadRule("no such rule")
+
+
+def check_text(text):
+    """Raise NotText for a value that is no string."""
+    if not isinstance(text, str):
+        raise NotText("a text is a string")

@@ -2,7 +2,7 @@
 
 from probetables.checks import MARK, check_key, check_rule, check_table
 from probetables.errors import AlreadyThere, Full
-from probetables.places import first_lost, keys_in, passed_slots, require_clean, require_right
+from probetables.places import first_lost, keys_in, passed_slots, replaced, require_clean, require_right
 
 INSERT_RULES = ("poor", "stay", "swap")
 
@@ -32,7 +32,7 @@ def insert(book, table, key, rule):
 def put_staying(book, table, key):
     """The table with a key in the first slot of its tries that has no key."""
     free = [slot for slot in book[key] if table[slot] is None or table[slot] == MARK]
-    return tuple([key if slot == free[0] else item for slot, item in enumerate(table)])
+    return replaced(table, free[0], key)
 
 
 def put_moving(book, table, key, rule):

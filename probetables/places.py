@@ -1,7 +1,7 @@
 """Keys in valid tables: which slots they pass, and which of them a look-up does not find."""
 
 from probetables.checks import MARK
-from probetables.errors import NotClean, NotRight
+from probetables.errors import NotClean, NotRight, NotThere
 
 
 def keys_in(table):
@@ -43,6 +43,22 @@ def first_lost(book, table):
     """The least key in a table that is not found, None if there is none."""
     lost = [key for key in keys_in(table) if slot_found(book, table, key) is None]
     return min(lost, default=None)
+
+
+def replaced(table, slot, item):
+    """The table with another item in a slot."""
+    return tuple([item if at == slot else stood for at, stood in enumerate(table)])
+
+
+def moved(table, slot, hole):
+    """The table with the key of a slot moved to a hole, and the slot empty."""
+    return replaced(replaced(table, hole, table[slot]), slot, None)
+
+
+def require_there(table, key):
+    """Raise NotThere for a key that does not stand in a table."""
+    if key not in table:
+        raise NotThere("the key does not stand in the table")
 
 
 def require_right(book, table):

@@ -115,3 +115,59 @@ def naive_orders(book, table):
         if made == table:
             found.append(order)
     return found
+
+
+def naive_behind(size, slot):
+    return [(slot + steps) % size for steps in range(1, size)]
+
+
+def naive_ways(book, table, key, most=100):
+    """All ways that delete the key, of no more than so many moves."""
+    def go_on(left, way):
+        passing = naive_passing(book, tuple(left), way[-1])
+        if not passing:
+            yield way
+        for other in passing if len(way) <= most else ():
+            slot = left.index(other)
+            after = list(left)
+            after[way[-1]], after[slot] = other, None
+            yield from go_on(after, way + (slot,))
+    hole = table.index(key)
+    return list(go_on([None if slot == hole else item for slot, item in enumerate(table)], (hole,)))
+
+
+def naive_short_ways(book, table, key):
+    """All shortest ways that delete the key, ascending."""
+    most, ways = 0, []
+    while not ways:
+        ways = sorted(naive_ways(book, table, key, most))
+        most += 1
+    return ways
+
+
+def naive_giver(book, slots, hole, rule):
+    """The slot whose key goes to the hole, None if there is none such."""
+    given = None
+    for slot in naive_behind(len(slots), hole):
+        if slots[slot] is None and rule in ("last", "scan"):
+            break
+        if rule == "last" and slots[slot] in range(8):
+            given = slot
+        if rule != "last" and slots[slot] in naive_passing(book, tuple(slots), hole):
+            return slot
+    return given
+
+
+def naive_delete(book, table, key, rule):
+    hole = table.index(key)
+    slots = list(table)
+    slots[hole] = "gone" if rule == "mark" else None
+    if rule == "short":
+        for slot in naive_short_ways(book, table, key)[0][1:]:
+            slots[hole], slots[slot], hole = slots[slot], None, slot
+    if rule in ("once", "last", "scan", "fill"):
+        slot = naive_giver(book, slots, hole, rule)
+        while slot is not None:
+            slots[hole], slots[slot], hole = slots[slot], None, slot
+            slot = naive_giver(book, slots, hole, rule) if rule in ("scan", "fill") else None
+    return tuple(slots)

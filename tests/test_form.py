@@ -15,7 +15,12 @@ INTERFACE = {
     "tables": (
         "look_up", "looked_at", "places_sum", "is_right", "lost_key", "passing", "clearable", "cleared"),
     "inserts": ("insert", "insert_rules", "count_orders", "least_order", "ring"),
+    "deletes": ("delete", "delete_rules", "is_right_rule", "wrong_case"),
+    "ways": ("fewest_moves", "count_short_ways", "short_way", "suspects", "shows_way"),
+    "texts": ("write_book", "write_table", "read_book", "read_table"),
+    "desks": ("Desk",),
 }
+METHODS = {"Desk": ("run", "undo", "table")}
 LIBRARY = {"math": {"gcd"}}
 
 
@@ -28,6 +33,12 @@ class Form(unittest.TestCase):
         for name, wanted in INTERFACE.items():
             body = ast.parse((PACKAGE / f"{name}.py").read_text("utf-8")).body
             defined = [part.name for part in body if isinstance(part, (ast.FunctionDef, ast.ClassDef))]
+            self.assertEqual([part for part in wanted if part not in defined], [], name)
+
+    def test_methods_are_defined_in_their_classes(self):
+        classes = {part.name: part for _, tree in parsed_files() for part in tree.body if isinstance(part, ast.ClassDef)}
+        for name, wanted in METHODS.items():
+            defined = [part.name for part in classes[name].body if isinstance(part, ast.FunctionDef)]
             self.assertEqual([part for part in wanted if part not in defined], [], name)
 
     def test_imports_come_from_the_package_and_the_allowed_library(self):
