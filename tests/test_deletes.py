@@ -51,7 +51,7 @@ class Deleting(ErrorCase):
                     self.compare(book, table)
 
     def test_three_keys_in_three_slots(self):
-        # All books but for turns of the slots, which change nothing.
+        # A third of the books; the others are turns of these.
         for book in books(3, 3):
             if book[0][0] == 0:
                 for table in tables(3, 3):
